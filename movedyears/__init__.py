@@ -1,0 +1,1 @@
+"""Schemes of entitlements, and what moving between them can ever cost."""
