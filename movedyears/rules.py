@@ -1,13 +1,12 @@
 """The rules of a scheme, and their text."""
 
-from movedyears.words import condition_words, lines_of, read_condition
+from movedyears.words import condition_words, lines_of, payment_line, read_amount, read_condition, read_payment
 
 MOST_FACTS = 6
 MOST_COUNTERS = 3
 MOST_GAINS = 20
 MOST_LEAVES = 20
 MOST_CAP = 20
-MOST_AMOUNT = 1000
 
 
 class Rules:
@@ -40,18 +39,12 @@ def gain_line(gain):
     return " ".join(["gain", str(amount), fact] + condition_words(condition))
 
 
-def leave_line(leave):
-    """Return the line of a leave."""
-    amount, condition = leave
-    return " ".join(["leave", str(amount)] + condition_words(condition))
-
-
 def format_rules(rules):
     """Return the text of rules."""
     lines = [" ".join(["facts"] + rules.facts)]
     lines.extend([counter_line(counter, rules.facts) for counter in rules.counters])
     lines.extend([gain_line(gain) for gain in rules.gains])
-    lines.extend([leave_line(leave) for leave in rules.leaves])
+    lines.extend([payment_line("leave", leave) for leave in rules.leaves])
     return "\n".join(lines)
 
 
@@ -97,7 +90,7 @@ def read_counter(line, rules):
 def read_gain(line, rules):
     """Read the rest of the line of a gain, with the rules of the lines ahead of it."""
     line.check(len(rules.gains) < MOST_GAINS and not rules.leaves)
-    amount = line.integer(-MOST_AMOUNT, MOST_AMOUNT)
+    amount = read_amount(line)
     fact = line.one_of(rules.facts)
     return (amount, fact, read_condition(line, rules.names()))
 
@@ -105,8 +98,7 @@ def read_gain(line, rules):
 def read_leave(line, rules):
     """Read the rest of the line of a leave, with the rules of the lines ahead of it."""
     line.check(len(rules.leaves) < MOST_LEAVES)
-    amount = line.integer(-MOST_AMOUNT, MOST_AMOUNT)
-    return (amount, read_condition(line, rules.names()))
+    return read_payment(line, rules.names())
 
 
 def read_line(line, rules):

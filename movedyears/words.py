@@ -8,6 +8,7 @@ SIGNS = (">=", "<")
 MOST_LETTERS = 8
 MOST_FIGURES = 4
 MOST_TESTED = 20
+MOST_AMOUNT = 1000
 
 
 def consists_of(word, signs):
@@ -116,3 +117,20 @@ def condition_words(condition):
     for counter, sign, number in condition:
         words.extend(["and" if words else "if", counter, sign, str(number)])
     return words
+
+
+def read_amount(line):
+    """Read an amount."""
+    return line.integer(-MOST_AMOUNT, MOST_AMOUNT)
+
+
+def read_payment(line, names):
+    """Read the rest of a line: an amount, and a condition on counters with these names."""
+    amount = read_amount(line)
+    return (amount, read_condition(line, names))
+
+
+def payment_line(kind, payment):
+    """Return the line of a payment (amount, condition), with the word of its kind ahead."""
+    amount, condition = payment
+    return " ".join([kind, str(amount)] + condition_words(condition))

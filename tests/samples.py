@@ -1,11 +1,68 @@
-"""Rules and their texts, for several tests."""
+"""Rules and their texts, machines, careers and carries, for several tests."""
 
+import itertools
+
+from movedyears.carrying import Carry
+from movedyears.machines import Machine
 from movedyears.rules import Rules
 
 
 def fields(rules):
     """Return all that rules tell, so that two rules can be compared."""
     return (rules.facts, rules.counters, rules.gains, rules.leaves)
+
+
+def shown(machine):
+    """Return all that a machine tells, so that two machines can be compared."""
+    return (machine.facts, machine.step, machine.gain, machine.leave)
+
+
+def machine_of(facts, rows):
+    """Return a machine of rows (next states, gains, what is paid on leaving), the first two in the order of facts."""
+    step = [dict(zip(facts, row[0])) for row in rows]
+    gain = [dict(zip(facts, row[1])) for row in rows]
+    return Machine(list(facts), step, gain, [row[2] for row in rows])
+
+
+def careers(facts, longest):
+    """Return all careers up to a length, the shorter ones first, then in the order of the facts."""
+    found = []
+    for many in range(longest + 1):
+        found.extend([list(career) for career in itertools.product(facts, repeat=many)])
+    return found
+
+
+def random_condition(rng, names):
+    """Return a condition, with or without tests."""
+    many = rng.choice([0, 0, 1, 2]) if names else 0
+    return [(rng.choice(names), rng.choice([">=", "<"]), rng.randint(0, 5)) for _ in range(many)]
+
+
+def random_rules(rng, facts, names):
+    """Return rules with these facts and counters with these names."""
+    counters = []
+    for name in names:
+        cap = rng.randint(1, 4)
+        chosen = [fact for fact in facts if rng.random() < 0.7]
+        counters.append((name, cap, {fact: rng.choice(["reset", rng.randint(1, cap)]) for fact in chosen}))
+    gains = [(rng.randint(-9, 9), rng.choice(facts), random_condition(rng, names)) for _ in range(rng.randint(0, 6))]
+    leaves = [(rng.randint(-9, 9), random_condition(rng, names)) for _ in range(rng.randint(0, 4))]
+    return Rules(list(facts), counters, gains, leaves)
+
+
+def random_machine(rng, facts, many, most):
+    """Return a machine with so many states and amounts from -most to most."""
+    rows = []
+    for _ in range(many):
+        step = [rng.randrange(many) for _ in facts]
+        rows.append((step, [rng.randint(-most, most) for _ in facts], rng.randint(-most, most)))
+    return machine_of(facts, rows)
+
+
+def random_carry(rng, machine, other, most):
+    """Return a carry between two machines."""
+    to = [rng.randrange(other.many()) for _ in range(machine.many())]
+    return Carry(to, [rng.randint(-most, most) for _ in range(machine.many())])
 
 
 def smallest():

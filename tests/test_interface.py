@@ -1,17 +1,36 @@
-"""What the interface says of where its names stand."""
+"""What the interface says of where its names stand, and of their arguments."""
 
+import inspect
 import unittest
 
-from movedyears import conditions, errors, rules
+from movedyears import carrying, conditions, errors, machines, rules, runs
 
 LISTED = {
-    errors: [
-        "MovedyearsError", "LineError", "UnknownFact", "NoSuchYear", "PowerCut", "NoCarry",
-        "UnlikeFacts", "Endless", "TooManyStates", "ShutError",
-    ],
-    conditions: ["passes", "holds"],
-    rules: ["Rules", "format_rules", "parse_rules"],
+    errors: {
+        "MovedyearsError": None, "LineError": "(line)", "UnknownFact": "(fact)", "NoSuchYear": "(year)",
+        "PowerCut": "(written)", "NoCarry": "(scheme, other)", "UnlikeFacts": "()", "Endless": "()",
+        "TooManyStates": "()", "ShutError": "()",
+    },
+    conditions: {"passes": "(test, counts)", "holds": "(condition, counts)"},
+    rules: {"Rules": "(facts, counters, gains, leaves)", "format_rules": "(rules)", "parse_rules": "(text)"},
+    machines: {
+        "Machine": "(facts, step, gain, leave)", "is_machine": "(machine)", "first_counts": "(rules)",
+        "year_counts": "(rules, counts, fact)", "year_gain": "(rules, counts, fact)",
+        "leave_gain": "(rules, counts)", "made": "(rules, more=())",
+    },
+    runs: {
+        "states_along": "(machine, state, career)", "state_after": "(machine, state, career)",
+        "gains_of": "(machine, state, career)", "total": "(machine, state, career)",
+    },
+    carrying: {
+        "CarryRules": "(takes, costs)", "format_carry": "(carry_rules)", "parse_carry": "(text, rules, other)",
+        "Carry": "(to, cost)", "carried_counts": "(carry_rules, counts, other)", "move_cost": "(carry_rules, counts)",
+        "made_carry": "(rules, other, carry_rules)", "moved": "(machine, other, carry, career, year)",
+        "loss": "(machine, other, carry, career, year)",
+    },
 }
+
+METHODS = [(rules.Rules, "names"), (machines.Machine, "many")]
 
 
 class Interface(unittest.TestCase):
@@ -20,8 +39,16 @@ class Interface(unittest.TestCase):
             for name in names:
                 self.assertEqual(getattr(module, name).__module__, module.__name__)
 
+    def test_each_has_the_arguments_that_are_listed(self):
+        for module, names in LISTED.items():
+            for name, arguments in names.items():
+                if arguments is not None:
+                    self.assertEqual(str(inspect.signature(getattr(module, name))), arguments, name)
+
     def test_each_method_is_defined_in_its_class(self):
-        self.assertIn("names", vars(rules.Rules))
+        for kind, name in METHODS:
+            self.assertIn(name, vars(kind))
+            self.assertEqual(str(inspect.signature(getattr(kind, name))), "(self)")
 
 
 if __name__ == "__main__":
