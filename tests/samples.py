@@ -121,3 +121,41 @@ gain 1 if if if >= 1 and and < 2 and count >= 1
 gain 2 and if and >= 20
 gain 3 gain
 leave 4 if and < 0 and and >= 0 and if < 3"""
+
+
+def brought_down(rng, machine, down):
+    """Lessen all gains, so that fewer losses grow without end."""
+    for row in machine.gain:
+        for fact in machine.facts:
+            row[fact] -= rng.randint(0, down)
+    return machine
+
+
+def random_case(rng, facts, turn):
+    """Return two machines and a carry; of several turns some have a loss that grows without end."""
+    machine = brought_down(rng, random_machine(rng, facts, rng.randint(1, 4), 3), turn % 7)
+    other = random_machine(rng, facts, rng.randint(1, 3), 1)
+    return machine, other, random_carry(rng, machine, other, 4)
+
+
+def still(facts):
+    """Return a machine that never pays: another one is ahead of it by all that it pays itself."""
+    return machine_of(facts, [([0] * len(facts), [0] * len(facts), 0)])
+
+
+def same_machine(rng, machine, most):
+    """Return a machine that is alike: with states split and numbered anew, and with amounts moved ahead."""
+    copies = [state for state in range(1, machine.many()) for _ in range(rng.randint(1, 2))]
+    rng.shuffle(copies)
+    copies = [0] + copies + [rng.randrange(machine.many())]
+    ahead = [0] + [rng.randint(-most, most) for _ in copies[1:]]
+    rows = []
+    for at, state in enumerate(copies):
+        chosen = []
+        for fact in machine.facts:
+            fitting = [place for place, one in enumerate(copies) if one == machine.step[state][fact]]
+            chosen.append(rng.choice(fitting))
+        gains = [machine.gain[state][fact] for fact in machine.facts]
+        moved_ahead = [gain + ahead[place] - ahead[at] for gain, place in zip(gains, chosen)]
+        rows.append((chosen, moved_ahead, machine.leave[state] - ahead[at]))
+    return machine_of(machine.facts, rows)

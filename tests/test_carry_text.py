@@ -118,7 +118,8 @@ class Reading(unittest.TestCase):
     def test_names_that_are_words_of_the_text(self):
         first = Rules(["a"], [("less", 3, {}), ("if", 3, {}), ("take", 3, {})], [], [])
         other = Rules(["a"], [("take", 3, {}), ("less", 3, {}), ("cost", 3, {})], [], [])
-        text = "take take less\ntake less less less 3\ntake cost if less 20\ncost 5 if if < 3 and less >= 1 and take < 2"
+        text = "take take less\ntake less less less 3\ntake cost if less 20\n"
+        text += "cost 5 if if < 3 and less >= 1 and take < 2"
         takes = [("take", "less", 0), ("less", "less", 3), ("cost", "if", 20)]
         costs = [(5, [("if", "<", 3), ("less", ">=", 1), ("take", "<", 2)])]
         read = parse_carry(text, first, other)
@@ -159,8 +160,8 @@ def wrong_everywhere():
 def wrong_takes():
     """Return wrong lines of takes, behind a take of e."""
     lines = ["take f", "take c", "take f 1", "take 1 f", "take f less 1", "take f c c", "take f c 1", "take c f"]
-    lines += ["take c c", "take f e", "take f f", "take f a", "take a c", "take f x", "take x c", "take F c", "take f C"]
-    lines += ["take e c", "take e d", "take e c less 1", "take f c f d", "take f c if c < 1", "take f c and"]
+    lines += ["take c c", "take f e", "take f f", "take f a", "take a c", "take f x", "take x c", "take F c"]
+    lines += ["take f C", "take e c", "take e d", "take e c less 1", "take f c f d", "take f c if c < 1", "take f c and"]
     lines += ["take " + name + " c" for name in WRONG_NAMES] + ["take f " + name for name in WRONG_NAMES]
     lines += ["take f c less", "take f c less c", "take f c less 1 1", "take f c less 1 if c < 1", "take f c Less 1"]
     lines += ["take f c less less 1", "take f c less 1 less 1", "take f c minus 1", "take f c -1", "take less 1 f c"]

@@ -179,7 +179,8 @@ class MadeCarry(unittest.TestCase):
 def random_carry_rules(rng):
     """Return carrying rules from the counters x and y to y and z."""
     takes = [(name, rng.choice(["x", "y"]), rng.randint(0, 3)) for name in ("y", "z") if rng.random() < 0.7]
-    costs = [(rng.randint(-9, 9), [("x", rng.choice([">=", "<"]), rng.randint(0, 4))]) for _ in range(rng.randint(0, 3))]
+    tests = [("x", rng.choice([">=", "<"]), rng.randint(0, 4)) for _ in range(rng.randint(0, 3))]
+    costs = [(rng.randint(-9, 9), [test]) for test in tests]
     return CarryRules(takes, costs)
 
 

@@ -3,7 +3,7 @@
 import inspect
 import unittest
 
-from movedyears import carrying, conditions, errors, machines, rules, runs
+from movedyears import alike, carrying, conditions, errors, longest, losses, machines, pairs, rules, runs
 
 LISTED = {
     errors: {
@@ -28,9 +28,24 @@ LISTED = {
         "made_carry": "(rules, other, carry_rules)", "moved": "(machine, other, carry, career, year)",
         "loss": "(machine, other, carry, career, year)",
     },
+    pairs: {
+        "Pairs": "(machine, other, begins)", "first_careers": "(machine)", "left_from": "(machine)",
+        "moved_pairs": "(machine, other, carry)",
+    },
+    longest: {"greatest_sums": "(pairs)", "lengths": "(pairs, values)"},
+    losses: {
+        "losses_from": "(machine, other, carry)", "greatest_loss": "(machine, other, carry)",
+        "losing_career": "(machine, other, carry)", "bound_paper": "(machine, other, carry)",
+        "verify_bound": "(machine, other, carry, bound, paper)", "endless_paper": "(machine, other, carry)",
+        "verify_endless": "(machine, other, carry, paper)",
+    },
+    alike: {
+        "are_alike": "(machine, other)", "telling_career": "(machine, other)", "alike_paper": "(machine, other)",
+        "verify_alike": "(machine, other, paper)",
+    },
 }
 
-METHODS = [(rules.Rules, "names"), (machines.Machine, "many")]
+METHODS = [(rules.Rules, "names"), (machines.Machine, "many"), (pairs.Pairs, "many")]
 
 
 class Interface(unittest.TestCase):
