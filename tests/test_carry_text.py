@@ -161,7 +161,7 @@ def wrong_takes():
     """Return wrong lines of takes, behind a take of e."""
     lines = ["take f", "take c", "take f 1", "take 1 f", "take f less 1", "take f c c", "take f c 1", "take c f"]
     lines += ["take c c", "take f e", "take f f", "take f a", "take a c", "take f x", "take x c", "take F c"]
-    lines += ["take f C", "take e c", "take e d", "take e c less 1", "take f c f d", "take f c if c < 1", "take f c and"]
+    lines += ["take f C", "take e c", "take e d", "take e c less 1", "take f c f d", "take f c if c < 1"]
     lines += ["take " + name + " c" for name in WRONG_NAMES] + ["take f " + name for name in WRONG_NAMES]
     lines += ["take f c less", "take f c less c", "take f c less 1 1", "take f c less 1 if c < 1", "take f c Less 1"]
     lines += ["take f c less less 1", "take f c less 1 less 1", "take f c minus 1", "take f c -1", "take less 1 f c"]
