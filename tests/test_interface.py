@@ -3,7 +3,9 @@
 import inspect
 import unittest
 
-from movedyears import alike, carrying, conditions, errors, longest, losses, machines, pairs, rules, runs
+from movedyears import (
+    alike, carrying, conditions, errors, longest, losses, machines, moments, pairs, rules, runs, smallest, subsidies,
+)
 
 LISTED = {
     errors: {
@@ -42,6 +44,17 @@ LISTED = {
     alike: {
         "are_alike": "(machine, other)", "telling_career": "(machine, other)", "alike_paper": "(machine, other)",
         "verify_alike": "(machine, other, paper)",
+    },
+    smallest: {"classes": "(machine)", "smallest": "(machine)"},
+    subsidies: {
+        "subsidies": "(machine, other, carry)", "flat_subsidy": "(machine, other, carry)",
+        "subsidized": "(carry, sums)", "is_free": "(machine, other, carry)",
+        "cheapest_takers": "(machine, other, carry)",
+    },
+    moments: {
+        "best_year": "(machine, other, carry, career)", "guaranteed": "(machine, other, carry, years)",
+        "expected": "(machine, other, carry, odds, years)", "mean_of": "(machine, other, carry, odds, years)",
+        "worst_sums": "(machine, years)", "mean_sums": "(machine, odds, years)", "common_divisor": "(first, second)",
     },
 }
 
