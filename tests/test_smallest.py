@@ -46,6 +46,22 @@ def classes_by_careers(machine):
     return found
 
 
+def classes_by_rounds(machine):
+    """Return the classes by comparing all states year by year, until nothing new is told."""
+    rows = {state: () for state in left_from(machine)}
+    many = 0
+    while len(set(rows.values())) > many:
+        many = len(set(rows.values()))
+        marks = {row: mark for mark, row in enumerate(sorted(set(rows.values())))}
+        told = {}
+        for state in rows:
+            behind = [marks[rows[machine.step[state][fact]]] for fact in machine.facts]
+            told[state] = (tuple(pushed(machine, state, [fact])[0] for fact in machine.facts), tuple(behind))
+        rows = told
+    least = {}
+    return {state: least.setdefault(rows[state], state) for state in sorted(rows)}
+
+
 def met_in_breadth(machine):
     """Return the states in the order in which they are met, the facts in their order."""
     met = [0]
@@ -109,6 +125,26 @@ class Classes(unittest.TestCase):
             fewer += len(set(found.values())) < len(found)
         self.assertGreater(fewer, 30)
         self.assertLess(fewer, 120)
+
+    def test_against_rounds_of_years(self):
+        rng = random.Random(65)
+        fewer = 0
+        for turn in range(800):
+            machine = random_machine(rng, "abc"[:rng.randint(1, 3)], rng.randint(5, [8, 30][turn % 2]), 0)
+            for _ in range(rng.randint(1, 3)):
+                machine.gain[rng.randrange(machine.many())]["a"] = rng.randint(0, 1)
+            if turn % 4:
+                machine = same_machine(rng, machine, turn % 3)
+            found = classes_by_rounds(machine)
+            self.check(machine, found)
+            fewer += 1 < len(set(found.values())) < len(found)
+        self.assertGreater(fewer, 100)
+
+    def test_states_that_only_later_years_tell_apart(self):
+        # Only the first year by "a" brings something: states 3 and 5 are parted by those that they lead to.
+        steps = [[1, 6], [2, 3], [3, 0], [5, 5], [2, 0], [5, 4], [2, 0]]
+        rows = [(step, [int(state == 0), 0], 0) for state, step in enumerate(steps)]
+        self.check(machine_of(["a", "b"], rows), {0: 0, 1: 1, 2: 2, 3: 3, 4: 4, 5: 5, 6: 4})
 
     def test_many_states(self):
         # All but the last one bring the same in the next years, and each one goes on in its own way.
