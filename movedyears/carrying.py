@@ -1,6 +1,6 @@
 """Carrying rules and their text; carries between machines, and what a member gets who moves."""
 
-from movedyears.errors import NoSuchYear, UnlikeFacts
+from movedyears.errors import NoCarry, NoSuchYear, UnlikeFacts
 from movedyears.machines import made, paid_sum, row_of
 from movedyears.runs import gains_of, state_after, total
 from movedyears.words import lines_of, payment_line, read_payment
@@ -100,6 +100,13 @@ def made_carry(rules, other, carry_rules):
     to = [states[row_of(other, values)] for values in carried]
     cost = [move_cost(carry_rules, values) for values in counts]
     return machine, second, Carry(to, cost)
+
+
+def carry_between(carries, scheme, other):
+    """Return the carry from a scheme to another one, by their numbers; NoCarry if there is none."""
+    if (scheme, other) not in carries:
+        raise NoCarry(scheme, other)
+    return carries[(scheme, other)]
 
 
 def moved(machine, other, carry, career, year):

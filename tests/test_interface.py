@@ -4,7 +4,8 @@ import inspect
 import unittest
 
 from movedyears import (
-    alike, carrying, conditions, errors, longest, losses, machines, moments, pairs, rules, runs, smallest, subsidies,
+    accounts, alike, carrying, conditions, errors, journal, longest, losses, machines, merging, moments, pairs, pumps,
+    rules, runs, smallest, subsidies,
 )
 
 LISTED = {
@@ -56,9 +57,29 @@ LISTED = {
         "expected": "(machine, other, carry, odds, years)", "mean_of": "(machine, other, carry, odds, years)",
         "worst_sums": "(machine, years)", "mean_sums": "(machine, odds, years)", "common_divisor": "(first, second)",
     },
+    pumps: {
+        "spots": "(schemes)", "pump": "(schemes, carries)", "pays": "(schemes, carries, spot, ring)",
+        "pump_paper": "(schemes, carries)", "verify_no_pump": "(schemes, carries, paper)",
+        "best_moves": "(schemes, carries, spot)",
+    },
+    merging: {
+        "sum_of": "(machine, other)", "times": "(machine, number)", "better_of": "(machine, other, most)",
+    },
+    accounts: {"Account": "(schemes, carries)"},
+    journal: {
+        "record_of": "(deed)", "recovered": "(octets)", "Device": "(octets, power)",
+        "JournaledAccount": "(account, device)", "opened": "(schemes, carries, octets, power)",
+    },
 }
 
-METHODS = [(rules.Rules, "names"), (machines.Machine, "many"), (pairs.Pairs, "many")]
+METHODS = [
+    (rules.Rules, "names", "(self)"), (machines.Machine, "many", "(self)"), (pairs.Pairs, "many", "(self)"),
+    (accounts.Account, "scheme", "(self)"), (accounts.Account, "state", "(self)"),
+    (accounts.Account, "paid", "(self)"), (accounts.Account, "worth", "(self)"),
+    (accounts.Account, "year", "(self, fact)"), (accounts.Account, "move", "(self, other)"),
+    (accounts.Account, "undo", "(self)"), (accounts.Account, "branch", "(self)"),
+    (journal.Device, "append", "(self, octet)"), (journal.JournaledAccount, "perform", "(self, deed)"),
+]
 
 
 class Interface(unittest.TestCase):
@@ -74,9 +95,9 @@ class Interface(unittest.TestCase):
                     self.assertEqual(str(inspect.signature(getattr(module, name))), arguments, name)
 
     def test_each_method_is_defined_in_its_class(self):
-        for kind, name in METHODS:
+        for kind, name, arguments in METHODS:
             self.assertIn(name, vars(kind))
-            self.assertEqual(str(inspect.signature(getattr(kind, name))), "(self)")
+            self.assertEqual(str(inspect.signature(getattr(kind, name))), arguments)
 
 
 if __name__ == "__main__":
