@@ -71,13 +71,13 @@ class Parting:
                 leading.setdefault(self.number[state], []).append(state)
         return leading
 
-    def part(self, number, states):
+    def part(self, number, taken):
         """Take states out of a class, into a new one."""
-        for state in states:
+        for state in taken:
             del self.states[number][state]
-        added = self.add_class(states)
+        added = self.add_class(taken)
         # If all were parted by the whole class, one part does what both do: the smaller one does it sooner.
-        if self.waits[number] or len(states) <= len(self.states[number]):
+        if self.waits[number] or len(taken) <= len(self.states[number]):
             self.let_wait(added)
         else:
             self.let_wait(number)
